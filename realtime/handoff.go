@@ -4,6 +4,7 @@ import (
 	"slices"
 
 	"gristmill/api"
+	"gristmill/away"
 )
 
 // seal makes a batch of the facts that are in none, if it was asked for, or they are many enough.
@@ -31,7 +32,7 @@ func (n *Node) lookAfter(b api.Book) {
 	}
 	// While nobody tells the state nothing is known to be out of it.
 	gone := func(api.Seg) bool { return false }
-	if state, code := stateOf(b); code == api.OK {
+	if state, code := away.State(b); code == api.OK {
 		n.settle(state)
 		named := setOf(state.Metas)
 		gone = func(s api.Seg) bool { return !named.has(s) }
@@ -82,7 +83,7 @@ func (n *Node) handOff(b api.Book, d api.Deep) {
 
 // publish tells whether a batch is published now.
 func (n *Node) publish(w *way, b api.Book, d api.Deep) bool {
-	state, code := stateOf(b)
+	state, code := away.State(b)
 	if code != api.OK || n.stream >= len(state.Offsets) {
 		return false
 	}
@@ -93,13 +94,13 @@ func (n *Node) publish(w *way, b api.Book, d api.Deep) bool {
 		return false
 	}
 	w.name(state.Metas)
-	if do(b, w.txn(n.stream, state.Epoch)) == api.OK {
+	if away.Do(b, w.txn(n.stream, state.Epoch)) == api.OK {
 		w.publish()
 		return true
 	}
 	// Whatever it answered: whether it was done stands in the state, now or when that is told again.
 	w.unknown = true
-	if state, code = stateOf(b); code == api.OK {
+	if state, code = away.State(b); code == api.OK {
 		n.settle(state)
 	}
 	return w.published
@@ -107,7 +108,7 @@ func (n *Node) publish(w *way, b api.Book, d api.Deep) bool {
 
 // putInto puts the batch's blobs into deep storage, those that were there, too: what isn't named may have gone since.
 func (w *way) putInto(d api.Deep) bool {
-	return !slices.ContainsFunc(w.parts, func(p *part) bool { return put(d, p.Blob, p.blob) != api.OK })
+	return !slices.ContainsFunc(w.parts, func(p *part) bool { return away.Put(d, p.Blob, p.blob) != api.OK })
 }
 
 // tell tells the broker what is served, if that changed, or it is time to tell it again.
