@@ -2,6 +2,7 @@ package away
 
 import (
 	"bytes"
+	"strings"
 	"testing"
 
 	"gristmill/api"
@@ -16,6 +17,8 @@ type others struct {
 	txns   []api.Txn
 	names  []string
 	puts   [][]byte
+	nodes  []int
+	there  []string
 }
 
 func (o *others) answer() api.Errno {
@@ -32,7 +35,10 @@ func (o *others) Do(t api.Txn) (api.State, api.Errno) {
 	return o.state, o.answer()
 }
 
-func (o *others) Elect(int) (api.State, api.Errno) { return o.state, o.answer() }
+func (o *others) Elect(node int) (api.State, api.Errno) {
+	o.nodes = append(o.nodes, node)
+	return o.state, o.answer()
+}
 
 func (o *others) Put(name string, b []byte) api.Errno {
 	o.names, o.puts = append(o.names, name), append(o.puts, b)
@@ -44,9 +50,12 @@ func (o *others) Get(name string) ([]byte, api.Errno) {
 	return o.bytes, o.answer()
 }
 
-func (o *others) Delete(string) api.Errno { return o.answer() }
+func (o *others) Delete(name string) api.Errno {
+	o.names = append(o.names, name)
+	return o.answer()
+}
 
-func (o *others) List() ([]string, api.Errno) { return nil, o.answer() }
+func (o *others) List() ([]string, api.Errno) { return o.there, o.answer() }
 
 // expectCalls does each call once; all of them answer this code.
 func expectCalls(t *testing.T, b api.Book, d api.Deep, want api.Errno, epoch int, blob string) {
@@ -63,13 +72,24 @@ func expectCalls(t *testing.T, b api.Book, d api.Deep, want api.Errno, epoch int
 	if got, code := Get(d, "y"); code != want || string(got) != blob {
 		t.Errorf("Get: %q, %d", got, code)
 	}
+	if s, code := Elect(b, 41); code != want || s.Epoch != epoch {
+		t.Errorf("Elect: %+v, %d", s, code)
+	}
+	if code := Delete(d, "z"); code != want {
+		t.Errorf("Delete: %d", code)
+	}
+	l, code := List(d)
+	if told := want == api.OK && len(l) == 2 && l[0] == "p" && l[1] == "q"; code != want || told != (want == api.OK) || !told && l != nil {
+		t.Errorf("List: %q, %d", l, code)
+	}
 }
 
 // TestAnswers: what they answer is told, nothing beside an error; whoever panics or isn't there is away.
 func TestAnswers(t *testing.T) {
-	o := &others{state: api.State{Epoch: 7}, bytes: []byte("cd")}
+	o := &others{state: api.State{Epoch: 7}, bytes: []byte("cd"), there: []string{"p", "q"}}
 	expectCalls(t, o, o, api.OK, 7, "cd")
-	if len(o.txns) != 1 || o.txns[0].Epoch != 3 || len(o.names) != 2 || o.names[0] != "x" || o.names[1] != "y" || string(o.puts[0]) != "ab" {
+	asked := strings.Join(o.names, " ") == "x y z" && len(o.puts) == 1 && string(o.puts[0]) == "ab"
+	if !asked || len(o.txns) != 1 || o.txns[0].Epoch != 3 || len(o.nodes) != 1 || o.nodes[0] != 41 {
 		t.Errorf("asked %+v", o)
 	}
 	for _, code := range []api.Errno{api.ErrPower, api.ErrNone, api.ErrSum, api.ErrEpoch} {

@@ -3,9 +3,9 @@ package realtime
 import (
 	"cmp"
 	"strconv"
-	"strings"
 
 	"gristmill/api"
+	"gristmill/blobname"
 	"gristmill/intake"
 	"gristmill/segment"
 	"gristmill/wire"
@@ -59,23 +59,10 @@ func (w *way) partOf(stream int, chunk api.Span, blob []byte) *part {
 	return &part{Meta: meta, chunk: chunk, blob: blob, segment: g}
 }
 
-// blobName tells which part of which facts of which stream it is, and so no two unlike contents have one name; and
-// the bytes' own mark, lest a stream that has other facts at its offsets behind a crash meets what it left behind.
+// blobName tells which part of which facts of which stream it is, and so no two unlike contents have one name; behind a
+// crash a stream may have other facts at its offsets, and those are told apart by the bytes' mark.
 func (w *way) blobName(stream int, blob []byte) string {
-	words := []string{"r" + strconv.Itoa(stream)}
-	for _, number := range []uint64{w.From, w.To, uint64(len(w.parts)), markOf(blob)} {
-		words = append(words, strconv.FormatUint(number, 36))
-	}
-	return strings.Join(words, ".")
-}
-
-// markOf is 64 bits that hang on each of the bytes (Fowler, Noll and Vo's 1a).
-func markOf(b []byte) uint64 {
-	mark := uint64(14695981039346656037)
-	for _, c := range b {
-		mark = (mark ^ uint64(c)) * 1099511628211
-	}
-	return mark
+	return blobname.Of("r"+strconv.Itoa(stream), blob, w.From, w.To, uint64(len(w.parts)))
 }
 
 // txn is the transaction that publishes the batch.
